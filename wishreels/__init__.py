@@ -1,0 +1,1 @@
+"""Wishreels: routers that take the ways that they wish, in every order."""
