@@ -5,6 +5,7 @@ import itertools
 import random
 
 from wishreels.errors import BadWishes, NoRouter
+from wishreels.talks import Talk
 from wishreels.wishes import Wishes
 
 SWAP = Wishes(((), ((1, 2, 0), (1, 0)), ((2, 1, 0), (2, 0))))
@@ -33,7 +34,7 @@ def wrong_things():
         (item for item in (1, 0)), {}.keys(), {1: 0}.items(), property(), (True, 0), (1, False), (True, False),
         (False,), (None,), ("1", "0"), (b"1",), ("1",), (-1,), (99, 0), (1, 99, 0), ((1, 0), 0), (1, (0,)), [(1, 0)],
         [[1, 0]], ((),), ((0,),), ([],), ({},), ({1},), (1, [0]), (1, 0, 0), (1, 1, 0), (0, 1), (1,), (0, 0),
-        deep(list, 29), deep(tuple, 29), (deep(list, 28), 0), SWAP, BARE, Wishes, (SWAP,), (SWAP, 0),
+        deep(list, 29), deep(tuple, 29), (deep(list, 28), 0), SWAP, BARE, Talk(SWAP), Wishes, (SWAP,), (SWAP, 0),
     ]
 
 
@@ -63,7 +64,7 @@ def spoiled(thing):
         part = part_at(thing, path)
         news = [None, "x", object(), -1, 99, {}, SWAP, [], [part], frozenset(), (None,), ((part,),)]
         if isinstance(part, tuple):
-            news += [list(part), part + (None,), part + (part[-1:] or ((),)) * 9, set_of(part), iter(part)]
+            news += [list(part), part + (None,), part + ((),) * 9, set_of(part), iter(part)]
         if isinstance(part, int) and not isinstance(part, bool) and part in (0, 1):
             news += [bool(part)]
         if isinstance(part, str):

@@ -1,6 +1,9 @@
 import unittest
 
 from wishreels.outcomes import outcomes
+from wishreels.rings import ladder, rings
+from wishreels.settling import settles
+from wishreels.talks import begin, done
 from wishreels.wishes import Wishes as W
 
 swap = W(((), ((1, 2, 0), (1, 0)), ((2, 1, 0), (2, 0))))
@@ -16,6 +19,18 @@ class ExamplesTest(unittest.TestCase):
     def test_e02(self):
         self.assertEqual(outcomes(swap), [((0,), (1, 0), (2, 1, 0)), ((0,), (1, 2, 0), (2, 0))])
         self.assertEqual(outcomes(bad), [])
+
+    def test_e03(self):
+        self.assertEqual(done(swap, begin(swap), ("choose", 1)), (((0,), (1, 0), ()), ((), ())))
+
+    def test_e04(self):
+        self.assertIs(settles(plain), True)
+        self.assertIs(settles(swap), False)
+        self.assertIs(settles(bad), False)
+
+    def test_e05(self):
+        self.assertEqual(rings(swap), [((1, (1, 0), (1, 2, 0)), (2, (2, 0), (2, 1, 0)))])
+        self.assertIsNone(ladder(swap))
 
 
 if __name__ == "__main__":

@@ -241,7 +241,7 @@ class StatementsTest(unittest.TestCase):
     def test_what_is_iterated_over_on_the_spot(self):
         lazy = ("zip", "enumerate", "reversed", "range", "map")
         inside = [node.iter for _, node in NODES if isinstance(node, (ast.For, ast.comprehension))]
-        inside += [argument for _, node in calls("list", "tuple", "dict", "sorted", "enumerate") for argument in node.args]
+        inside += [one for _, node in calls("list", "tuple", "dict", "sorted", "enumerate") for one in node.args]
         for name, node in calls(*lazy):
             self.assertIn(node, inside, (name, node.lineno))
 
