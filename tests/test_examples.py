@@ -1,8 +1,11 @@
 import unittest
 
 from wishreels.outcomes import outcomes
+from wishreels.reels import least_reel
 from wishreels.rings import ladder, rings
+from wishreels.roles import Roles, customer_ring, levels
 from wishreels.settling import settles
+from wishreels.strikings import settles_struck
 from wishreels.talks import begin, done
 from wishreels.wishes import Wishes as W
 
@@ -31,6 +34,15 @@ class ExamplesTest(unittest.TestCase):
     def test_e05(self):
         self.assertEqual(rings(swap), [((1, (1, 0), (1, 2, 0)), (2, (2, 0), (2, 1, 0)))])
         self.assertIsNone(ladder(swap))
+
+    def test_e06(self):
+        told = ((1, (1, 0), (1, 2, 0)), (2, (2, 0), (2, 3, 0)), (3, (3, 0), (3, 1, 0)))
+        self.assertEqual(least_reel(bad), told)
+        self.assertIs(settles_struck(plain), True)
+
+    def test_e07(self):
+        self.assertEqual(customer_ring(Roles(4, [(1, 2), (2, 3), (3, 1)], [])), (1, 2, 3))
+        self.assertEqual(levels(Roles(3, [(0, 1), (1, 2)], [])), (0, 1, 2))
 
 
 if __name__ == "__main__":

@@ -4,6 +4,10 @@ Each function judges any object. Kinds are looked at ahead of worths, since True
 and since not every object can be looked up in a dict.
 """
 
+from wishreels.errors import NoRouter
+
+MOST_ROUTERS = 8
+
 
 def is_integer(thing):
     """Whether a thing is an integer and no flag."""
@@ -35,14 +39,30 @@ def is_router(size, thing):
     return is_between(0, size - 1, thing)
 
 
+def refuse_no_router(size, thing):
+    """Raise NoRouter unless a thing is a router of something with this size."""
+    if not is_router(size, thing):
+        raise NoRouter(thing)
+
+
+def is_size(least, thing):
+    """Whether a thing is a number of routers, not less than the least."""
+    return is_between(least, MOST_ROUTERS, thing)
+
+
 def is_router_pair(size, thing):
     """Whether a thing is a pair of routers, unlike or not."""
     return is_tuple_of(2, thing) and is_router(size, thing[0]) and is_router(size, thing[1])
 
 
+def is_row_of_unlike_pairs(size, thing):
+    """Whether a thing is a row of pairs of unlike routers."""
+    return is_row(thing) and all([is_router_pair(size, pair) and pair[0] != pair[1] for pair in thing])
+
+
 def is_way(size, router, thing):
     """Whether a thing is a way of a router but the goal, through routers below the size."""
-    if not isinstance(thing, tuple) or not 2 <= len(thing) <= 8:
+    if not isinstance(thing, tuple) or not 2 <= len(thing) <= MOST_ROUTERS:
         return False
     if not all([is_router(size, item) for item in thing]):
         return False

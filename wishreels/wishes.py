@@ -1,9 +1,9 @@
 """Wishes: for each router the ways that it is let to use, the most wished one first."""
 
-from wishreels.errors import BadLinks, BadWays, BadWishes, NoRouter
-from wishreels.kinds import is_integer_tuple, is_router, is_router_pair, is_row, is_way
+from wishreels.errors import BadLinks, BadWays, BadWishes
+from wishreels.kinds import is_integer_tuple, is_router, is_router_pair, is_row, is_size, is_way, refuse_no_router
 
-MOST_ROUTERS = 8
+LEAST_ROUTERS = 2
 MOST_WAYS = 6
 
 
@@ -20,8 +20,7 @@ class Wishes:
 
     def ways(self, router):
         """The tuple of the let ways of a router, () for the goal."""
-        if not is_router(self.size, router):
-            raise NoRouter(router)
+        refuse_no_router(self.size, router)
         return self._lists[router]
 
     def lines(self):
@@ -50,7 +49,7 @@ class Wishes:
 
 def refuse_wrong_lists(lists):
     """Raise BadWishes unless these are the lists of wishes."""
-    if not isinstance(lists, tuple) or not 2 <= len(lists) <= MOST_ROUTERS:
+    if not isinstance(lists, tuple) or not is_size(LEAST_ROUTERS, len(lists)):
         raise BadWishes(-1)
     for router, item in enumerate(lists):
         if not is_way_list(len(lists), router, item):
