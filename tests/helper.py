@@ -5,6 +5,8 @@ import itertools
 import random
 
 from wishreels.errors import BadWishes, NoRouter
+from wishreels.nets import Net
+from wishreels.policies import Policy, Rule
 from wishreels.roles import Roles
 from wishreels.talks import Talk
 from wishreels.wishes import Wishes
@@ -36,7 +38,7 @@ def wrong_things():
         (False,), (None,), ("1", "0"), (b"1",), ("1",), (-1,), (99, 0), (1, 99, 0), ((1, 0), 0), (1, (0,)), [(1, 0)],
         [[1, 0]], ((),), ((0,),), ([],), ({},), ({1},), (1, [0]), (1, 0, 0), (1, 1, 0), (0, 1), (1,), (0, 0),
         deep(list, 29), deep(tuple, 29), (deep(list, 28), 0), SWAP, BARE, Talk(SWAP), Wishes, (SWAP,), (SWAP, 0),
-        Roles(2, [], []),
+        Roles(2, [], []), Rule((), None, None), Policy(()), Net(2, {}), (Rule((), None, None), 0), [Policy(())],
     ]
 
 

@@ -1,6 +1,8 @@
 import unittest
 
 from wishreels.outcomes import outcomes
+from wishreels.patterns import fits
+from wishreels.policies import Policy, Rule
 from wishreels.reels import least_reel
 from wishreels.rings import ladder, rings
 from wishreels.roles import Roles, customer_ring, levels
@@ -43,6 +45,12 @@ class ExamplesTest(unittest.TestCase):
     def test_e07(self):
         self.assertEqual(customer_ring(Roles(4, [(1, 2), (2, 3), (3, 1)], [])), (1, 2, 3))
         self.assertEqual(levels(Roles(3, [(0, 1), (1, 2)], [])), (0, 1, 2))
+
+    def test_e08(self):
+        self.assertIs(fits((2, "any", 0), (2, 5, 5, 0)), True)
+
+    def test_e09(self):
+        self.assertEqual(Policy((Rule(("any",), None, (3, ("a",), ())),)).answer((1, 0), ()), (3, ("a",)))
 
 
 if __name__ == "__main__":

@@ -22,11 +22,18 @@ FUNCTIONS = {
     "roles": ["customer_ring(roles)", "levels(roles)", "is_levels(roles, thing)", "put(roles, routers)"],
     "rolewishes": ["is_by_roles(roles, thing)", "role_ways(roles, router)", "plain_wishes(roles)",
                    "ring_wishes(roles)"],
+    "patterns": ["fits(pattern, routers)"],
+    "parting": ["parting(one, other)", "used(policy, index)", "ways_to_stand(one, other)", "needless(policy)"],
+    "nets": ["wishes_of(net)"],
 }
 CLASSES = {
     "wishes": {"Wishes(lists)": ["ways(router)", "lines()", "struck(ways)", "failed(links)", "__eq__(other)"]},
     "talks": {"Talk(wishes)": ["do(step)", "run(steps)", "back(many)", "trying()", "ahead(steps)", "to_rest(limit)"]},
     "roles": {"Roles(size, customers, peers)": ["role(a, b)", "__eq__(other)"]},
+    "policies": {
+        "Rule(pattern, tag, deed)": ["__eq__(other)"],
+        "Policy(rules)": ["answer(routers, tags)", "rule(routers, tags)", "__eq__(other)"]},
+    "nets": {"Net(size, policies)": ["policy(w, v)", "with_policy(w, v, policy)", "told(way)", "__eq__(other)"]},
 }
 
 
