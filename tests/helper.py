@@ -4,7 +4,10 @@ import copy
 import itertools
 import random
 
+from wishreels.areas import Areas
+from wishreels.costs import Costs
 from wishreels.errors import BadWishes, NoRouter
+from wishreels.floods import Flood
 from wishreels.nets import Net
 from wishreels.policies import Policy, Rule
 from wishreels.roles import Roles
@@ -39,6 +42,7 @@ def wrong_things():
         [[1, 0]], ((),), ((0,),), ([],), ({},), ({1},), (1, [0]), (1, 0, 0), (1, 1, 0), (0, 1), (1,), (0, 0),
         deep(list, 29), deep(tuple, 29), (deep(list, 28), 0), SWAP, BARE, Talk(SWAP), Wishes, (SWAP,), (SWAP, 0),
         Roles(2, [], []), Rule((), None, None), Policy(()), Net(2, {}), (Rule((), None, None), 0), [Policy(())],
+        Flood(2, []), Costs(2, {}), Areas(Costs(1, {}), ((0,),)),
     ]
 
 

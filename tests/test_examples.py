@@ -1,5 +1,6 @@
 import unittest
 
+from wishreels.costs import Costs, distances
 from wishreels.outcomes import outcomes
 from wishreels.patterns import fits
 from wishreels.policies import Policy, Rule
@@ -51,6 +52,9 @@ class ExamplesTest(unittest.TestCase):
 
     def test_e09(self):
         self.assertEqual(Policy((Rule(("any",), None, (3, ("a",), ())),)).answer((1, 0), ()), (3, ("a",)))
+
+    def test_e10(self):
+        self.assertEqual(distances(Costs(3, {(1, 0): 5, (2, 1): 2, (2, 0): 9}), 0), (0, 5, 7))
 
 
 if __name__ == "__main__":

@@ -25,6 +25,11 @@ FUNCTIONS = {
     "patterns": ["fits(pattern, routers)"],
     "parting": ["parting(one, other)", "used(policy, index)", "ways_to_stand(one, other)", "needless(policy)"],
     "nets": ["wishes_of(net)"],
+    "chains": ["latest(size, links, deeds, r, b)", "is_chain(size, links, deeds, r, b, thing)"],
+    "costs": ["distances(costs, goal)", "is_distances(costs, goal, thing)", "cheapest_way(costs, start, goal)",
+              "cost_wishes(costs)"],
+    "areas": ["area_distances(areas, goal)", "area_way(areas, start, goal)", "is_area_way(areas, start, goal, thing)",
+              "detours(areas)"],
 }
 CLASSES = {
     "wishes": {"Wishes(lists)": ["ways(router)", "lines()", "struck(ways)", "failed(links)", "__eq__(other)"]},
@@ -34,6 +39,10 @@ CLASSES = {
         "Rule(pattern, tag, deed)": ["__eq__(other)"],
         "Policy(rules)": ["answer(routers, tags)", "rule(routers, tags)", "__eq__(other)"]},
     "nets": {"Net(size, policies)": ["policy(w, v)", "with_policy(w, v, policy)", "told(way)", "__eq__(other)"]},
+    "floods": {"Flood(size, links)": ["do(deed)", "book(router)", "content(router)", "back(many)", "is_calm()",
+                                      "rounds()"]},
+    "costs": {"Costs(size, lines)": ["cost(a, b)", "__eq__(other)"]},
+    "areas": {"Areas(costs, areas)": ["areas(router)"]},
 }
 
 

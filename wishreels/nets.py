@@ -1,6 +1,7 @@
 """Nets: policies for what routers tell each other, and the wishes that they make."""
 
 from wishreels.errors import BadNet, BadWay, TooMany
+from wishreels.growth import longer_ways
 from wishreels.kinds import is_integer_tuple, is_router_pair, is_size, is_way, refuse_no_router
 from wishreels.policies import Policy
 from wishreels.takings import GOAL_WAY
@@ -77,7 +78,8 @@ def wishes_of(net):
     columns = [[] for _ in range(net.size)]
     rests = [GOAL_WAY]
     while rests:
-        found = [way for rest in rests for way in let_onward(net, rest)]
+        longer = [way for rest in rests for way in longer_ways(net.size, rest)]
+        found = [way for way in longer if net.told(way) is not None]
         for way in found:
             columns[way[0]].append((net.told(way)[0], len(way), way))
         # Ways that are too many are not gone on with, as there might be very many then.
@@ -85,9 +87,3 @@ def wishes_of(net):
             raise TooMany(MOST_WAYS)
         rests = found
     return Wishes(tuple([tuple([row[2] for row in sorted(column)]) for column in columns]))
-
-
-def let_onward(net, rest):
-    """The list of the ways with this rest that are let by the net."""
-    longer = [(router,) + rest for router in range(1, net.size) if router not in rest]
-    return [way for way in longer if net.told(way) is not None]

@@ -1,9 +1,9 @@
 """Wishes by roles: ways that customers, givers and peers let each other use."""
 
+from wishreels.growth import first_wishes, grown_ways
 from wishreels.kinds import refuse_no_router
 from wishreels.roles import customer_ring
-from wishreels.takings import GOAL_WAY
-from wishreels.wishes import MOST_WAYS, Wishes, ends, hops, let_ways
+from wishreels.wishes import Wishes, hops, let_ways
 
 # Which second routers are wished more in plain wishes.
 RANKS = {"customer": 0, "peer": 1, "giver": 2}
@@ -44,38 +44,14 @@ def role_ways(roles, router):
 
 def all_role_ways(roles):
     """The list of all ways that are let by the roles, the shorter ones first."""
-    found = []
-    last = [GOAL_WAY]
-    while last:
-        # The rest of a way that is let by the roles is let, too.
-        last = [longer for rest in last for longer in longer_role_ways(roles, rest)]
-        found += last
-    return found
-
-
-def longer_role_ways(roles, rest):
-    """The list of the ways with this rest that are let by the roles."""
-    longer = [(router,) + rest for router in range(1, roles.size) if router not in rest]
-    return [way for way in longer if is_let(roles, way[:3])]
+    # The rest of a way that is let by the roles is let, too, so its begin alone is looked at.
+    return grown_ways(roles.size, lambda way: is_let(roles, way[:3]))
 
 
 def plain_wishes(roles):
     """The wishes in which each router has the first few ways that the roles let it use."""
     ways = all_role_ways(roles)
-    firsts = [first_ways(roles, [way for way in ways if way[0] == router]) for router in range(roles.size)]
-    kept = {way: True for row in firsts for way in row}
-    return Wishes(tuple([with_all_ends(kept, row) for row in firsts]))
-
-
-def first_ways(roles, ways):
-    """The list of the few of these ways that are wished most in plain wishes."""
-    ranked = sorted([(RANKS[roles.role(way[0], way[1])], len(way), way) for way in ways])
-    return [row[2] for row in ranked[:MOST_WAYS]]
-
-
-def with_all_ends(kept, ways):
-    """The tuple of the ways all ends of which are keys of a dict."""
-    return tuple([way for way in ways if all([end in kept for end in ends(way)])])
+    return first_wishes(roles.size, [(RANKS[roles.role(way[0], way[1])], len(way), way) for way in ways])
 
 
 def ring_wishes(roles):
