@@ -6,11 +6,14 @@ import random
 
 from wishreels.areas import Areas
 from wishreels.costs import Costs
+from wishreels.desk import Desk
 from wishreels.errors import BadWishes, NoRouter
+from wishreels.fields import Field
 from wishreels.floods import Flood
 from wishreels.nets import Net
 from wishreels.policies import Policy, Rule
 from wishreels.roles import Roles
+from wishreels.tables import Table
 from wishreels.talks import Talk
 from wishreels.wishes import Wishes
 
@@ -42,7 +45,8 @@ def wrong_things():
         [[1, 0]], ((),), ((0,),), ([],), ({},), ({1},), (1, [0]), (1, 0, 0), (1, 1, 0), (0, 1), (1,), (0, 0),
         deep(list, 29), deep(tuple, 29), (deep(list, 28), 0), SWAP, BARE, Talk(SWAP), Wishes, (SWAP,), (SWAP, 0),
         Roles(2, [], []), Rule((), None, None), Policy(()), Net(2, {}), (Rule((), None, None), 0), [Policy(())],
-        Flood(2, []), Costs(2, {}), Areas(Costs(1, {}), ((0,),)),
+        Flood(2, []), Costs(2, {}), Areas(Costs(1, {}), ((0,),)), Table([]), (Table([]), 0), Field((Table([]),)), Desk(),
+        range(10 ** 29), range(-(10 ** 29), 0), {(): {}}, {"0": [0]}, "\ud800", "\n",
     ]
 
 

@@ -30,6 +30,11 @@ FUNCTIONS = {
               "cost_wishes(costs)"],
     "areas": ["area_distances(areas, goal)", "area_way(areas, start, goal)", "is_area_way(areas, start, goal, thing)",
               "detours(areas)"],
+    "tables": ["parts(table)", "joined(ranges)", "table_parting(one, other)"],
+    "fewest": ["fewest(table)", "is_fewest(table, thing)"],
+    "fields": ["fate(field, start, address)", "fates(field, start)", "all_rounds(field)",
+               "holes(field, start, ranges)", "least_address(field, start, word)"],
+    "texts": ["wishes_text(wishes)", "policy_text(policy)", "read_wishes(text)", "read_policy(text)"],
 }
 CLASSES = {
     "wishes": {"Wishes(lists)": ["ways(router)", "lines()", "struck(ways)", "failed(links)", "__eq__(other)"]},
@@ -43,6 +48,9 @@ CLASSES = {
                                       "rounds()"]},
     "costs": {"Costs(size, lines)": ["cost(a, b)", "__eq__(other)"]},
     "areas": {"Areas(costs, areas)": ["areas(router)"]},
+    "tables": {"Table(entries)": ["onward(address)", "__eq__(other)"]},
+    "fields": {"Field(tables)": ["table(router)"]},
+    "desk": {"Desk()": ["tell(line)", "undoable()", "kept(name)", "trying()", "would(line)"]},
 }
 
 

@@ -2,6 +2,7 @@
 
 from wishreels.errors import BadNumber, BadStand, BadStep
 from wishreels.kinds import is_between, is_row
+from wishreels.trials import Trial
 from wishreels.works import Works, after, changed, due_steps, first_due, first_stand, is_stand_of, is_step_of
 
 MOST_STEPS_TO_REST = 10000
@@ -108,25 +109,3 @@ class Talk:
             return False
         self.stand = later
         return True
-
-
-class Trial:
-    """A block in which a talk may be changed, and behind which it is as it was."""
-
-    def __init__(self, talk):
-        self.talk = talk
-        self.stand = None
-        self.many = 0
-        self.past = []
-
-    def __enter__(self):
-        self.stand = self.talk.stand
-        self.many = self.talk.many
-        # A copy, since steps that are taken back in the block are lost in the talk's own list.
-        self.past = list(self.talk.past)
-        return self.talk
-
-    def __exit__(self, kind, value, trace):
-        self.talk.stand = self.stand
-        self.talk.many = self.many
-        self.talk.past = self.past
